@@ -38,7 +38,7 @@ func TestP1TooLongGoesBeforeNoPattern(t *testing.T) {
 	}
 }
 
-func TestP1NoCallPanics(t *testing.T) {
+func TestP1NoCallPanicsOrGivesMoreThanItsError(t *testing.T) {
 	moments := []int64{math.MinInt64, math.MinInt64 + 1, -1, 0, 1, math.MaxInt64 - 1, math.MaxInt64}
 	var frames [][]byte
 	var events []api.Event
@@ -49,15 +49,15 @@ func TestP1NoCallPanics(t *testing.T) {
 		frames = append(frames, []byte(text))
 		useEngine(t, text, events)
 		for _, stop := range []int{math.MinInt, 0, 1, math.MaxInt} {
-			spotter.Watch(text, events, math.MaxInt64, stop)
+			if matches, errno := spotter.Watch(text, events, math.MaxInt64, stop); errno != api.OK && len(matches) != 0 {
+				t.Errorf("Watch(%q) = %v beside error %d", text, matches, errno)
+			}
 		}
 		spotter.Watch(text, nil, 0, 1)
 	}
 	frames = append(frames, nil)
 	for i, from := range frames {
-		spotter.Load(from)
-		spotter.Delta(from, frames[len(frames)-1-i])
-		spotter.Apply(from, frames[len(frames)-1-i])
+		useFrames(t, from, frames[len(frames)-1-i])
 	}
 	spotter.Resolve(nil)
 	spotter.Resolve(frames)
@@ -81,6 +81,19 @@ func useEngine(t *testing.T, text string, events []api.Event) {
 		}
 	}
 	e.Save()
+}
+
+func useFrames(t *testing.T, from, other []byte) {
+	t.Helper()
+	if e, errno := spotter.Load(from); errno != api.OK && e != nil {
+		t.Errorf("Load(%q) gives an engine beside error %d", from, errno)
+	}
+	if delta, errno := spotter.Delta(from, other); errno != api.OK && len(delta) != 0 {
+		t.Errorf("Delta(%q, %q) = %q beside error %d", from, other, delta, errno)
+	}
+	if to, errno := spotter.Apply(from, other); errno != api.OK && len(to) != 0 {
+		t.Errorf("Apply(%q, %q) = %q beside error %d", from, other, to, errno)
+	}
 }
 
 func TestP2ParseHangsOnItsTextAlone(t *testing.T) {
