@@ -66,8 +66,8 @@ func TestP1NoCallPanicsOrGivesMoreThanItsError(t *testing.T) {
 func useEngine(t *testing.T, text string, events []api.Event) {
 	t.Helper()
 	e, errno := spotter.New(text)
-	if errno != api.OK && e != nil {
-		t.Errorf("New(%q) gives an engine beside error %d", text, errno)
+	if (e == nil) != (errno != api.OK) {
+		t.Errorf("New(%q) = %v, %d", text, e, errno)
 	}
 	if e == nil {
 		return
@@ -135,4 +135,17 @@ func TestP2ParseKeepsNothingOfItsText(t *testing.T) {
 			t.Errorf("Parse(%q) turned into %q when its text was written over", c.text, got)
 		}
 	}
+}
+
+func TestP2NewKeepsNothingOfItsText(t *testing.T) {
+	text := []byte("  a b+ / 10 ")
+	e := newEngine(t, unsafe.String(&text[0], len(text)))
+	if string(text) != "  a b+ / 10 " {
+		t.Errorf("New wrote into its text: %q", text)
+	}
+	for i := range text {
+		text[i] = 'x'
+	}
+	feedAll(t, e, "a1 x2 b3")
+	checkAdvance(t, e, 9, "0 2@3", api.OK)
 }

@@ -4,14 +4,26 @@ import (
 	"errors"
 
 	"spotter/api"
+	"spotter/engine"
 	"spotter/pattern"
 )
 
-// patternNumber is the number that a call answers for an error of pattern.Parse.
-func patternNumber(err error) api.Errno {
-	var long pattern.LongError
-	if errors.As(err, &long) {
+// number is what a call answers for an error of the packages behind it.
+func number(err error) api.Errno {
+	switch {
+	case err == nil:
+		return api.OK
+	case is[pattern.LongError](err):
 		return api.ErrLong
+	case is[engine.LateError](err):
+		return api.ErrLate
+	case is[engine.FullError](err):
+		return api.ErrFull
 	}
 	return api.ErrPattern
+}
+
+func is[E error](err error) bool {
+	var e E
+	return errors.As(err, &e)
 }
