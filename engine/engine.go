@@ -86,9 +86,13 @@ func (e *Engine) ableToGoOn(runs []run) []run {
 	return selected(runs, func(r run) bool { return e.pattern.GoesOn(r.step) })
 }
 
-// lasting are the runs that an event above the watermark could go on with.
 func (e *Engine) lasting(runs []run, w int64) []run {
-	return selected(runs, func(r run) bool { return r.age(w) < uint64(e.pattern.Window) })
+	return selected(runs, func(r run) bool { return e.lasts(r, w) })
+}
+
+// lasts: an event above the watermark could go on with the run.
+func (e *Engine) lasts(r run, w int64) bool {
+	return r.age(w) < uint64(e.pattern.Window)
 }
 
 func (e *Engine) matches(ended []run, end int64) []api.Match {

@@ -103,6 +103,18 @@ func TestRunsInTheirOrder(t *testing.T) {
 		run{0, []int{2, 1, 0}, 1}, run{1, []int{2, 1, 0}, 1})
 }
 
+func TestArrangedLeavesTheFirstOfTheSame(t *testing.T) {
+	var runs []run
+	for i := range 60 {
+		runs = append(runs, run{step: i % 2, offsets: []int{i * 7 % 5}, first: int64(i)})
+	}
+	for i, r := range arranged(runs) {
+		if r.offsets[0] != i/2 || r.step != i%2 || r.first >= 10 {
+			t.Errorf("run %d is %v", i, r)
+		}
+	}
+}
+
 func TestAnErrorLeavesTheStateAsItIs(t *testing.T) {
 	e := engineOf(t, "a+ / 9")
 	feed(t, e, 'a', 5, 4, 3, 2, 1)

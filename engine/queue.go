@@ -1,6 +1,9 @@
 package engine
 
-import "container/heap"
+import (
+	"container/heap"
+	"slices"
+)
 
 // event is one that waits: its offset tells it from others of its kind and moment.
 type event struct {
@@ -41,4 +44,9 @@ func (q *queue) take(w int64) (event, bool) {
 		return event{}, false
 	}
 	return heap.Pop(q).(event), true
+}
+
+// has: the event of the offset waits.
+func (q queue) has(offset int) bool {
+	return slices.ContainsFunc(q, func(ev event) bool { return ev.offset == offset })
 }

@@ -49,3 +49,18 @@ func TestQueueKeepsLaterEvents(t *testing.T) {
 		t.Errorf("took %v, %v", ev, ok)
 	}
 }
+
+func TestQueueHas(t *testing.T) {
+	var q queue
+	if q.has(0) {
+		t.Error("an empty queue has an offset")
+	}
+	for _, offset := range []int{7, 3, 5} {
+		q.add(event{offset: offset, kind: 'a', time: int64(offset)})
+	}
+	for offset := range 10 {
+		if want := offset == 3 || offset == 5 || offset == 7; q.has(offset) != want {
+			t.Errorf("has(%d) = %v", offset, !want)
+		}
+	}
+}

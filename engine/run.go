@@ -34,10 +34,15 @@ func inTurn(orders ...order) order {
 	}
 }
 
-// arranged puts runs in their order and leaves one of those that are the same.
+// runOrder is the order of runs: those between which it sees no difference are the same.
+func runOrder() order {
+	return inTurn(byOffsets, byStep)
+}
+
+// arranged puts runs in their order and leaves the first of those that are the same.
 func arranged(runs []run) []run {
-	compare := inTurn(byOffsets, byStep)
-	slices.SortFunc(runs, compare)
+	compare := runOrder()
+	slices.SortStableFunc(runs, compare)
 	return slices.CompactFunc(runs, func(a, b run) bool { return compare(a, b) == 0 })
 }
 

@@ -27,3 +27,12 @@ func (p Pattern) GoesOn(step int) bool {
 func (p Pattern) IsLast(step int) bool {
 	return step == len(p.Steps)-1
 }
+
+// Fits: so many events can be dealt out to the steps up to one, as far as their number goes.
+func (p Pattern) Fits(step, events int) bool {
+	least := step + 1
+	if events <= least {
+		return events == least
+	}
+	return slices.ContainsFunc(p.Steps[:least], func(s Step) bool { return s.Many })
+}

@@ -69,3 +69,29 @@ func TestGoesOn(t *testing.T) {
 		}
 	}
 }
+
+func TestFits(t *testing.T) {
+	for _, c := range []struct {
+		text  string
+		step  int
+		least int
+		more  bool
+	}{
+		{"a b c / 5", 0, 1, false},
+		{"a b c / 5", 2, 3, false},
+		{"a b+ c / 5", 0, 1, false},
+		{"a b+ c / 5", 1, 2, true},
+		{"a b+ c / 5", 2, 3, true},
+		{"a+ b c / 5", 0, 1, true},
+		{"a b c+ / 5", 1, 2, false},
+		{"a+ b+ c+ d+ / 5", 3, 4, true},
+	} {
+		p := parsed(t, c.text)
+		for events := range 10 {
+			want := events == c.least || events > c.least && c.more
+			if p.Fits(c.step, events) != want {
+				t.Errorf("%q: Fits(%d, %d) = %v", c.text, c.step, events, !want)
+			}
+		}
+	}
+}

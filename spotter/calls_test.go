@@ -80,13 +80,15 @@ func useEngine(t *testing.T, text string, events []api.Event) {
 			t.Errorf("Advance(%d) = %v beside error %d", ev.Time, matches, errno)
 		}
 	}
-	e.Save()
+	if len(e.Save()) == 0 {
+		t.Errorf("%q: Save gives nothing", text)
+	}
 }
 
 func useFrames(t *testing.T, from, other []byte) {
 	t.Helper()
-	if e, errno := spotter.Load(from); errno != api.OK && e != nil {
-		t.Errorf("Load(%q) gives an engine beside error %d", from, errno)
+	if e, errno := spotter.Load(from); e != nil || errno != api.ErrBytes {
+		t.Errorf("Load(%q) = %v, %d", from, e, errno)
 	}
 	if delta, errno := spotter.Delta(from, other); errno != api.OK && len(delta) != 0 {
 		t.Errorf("Delta(%q, %q) = %q beside error %d", from, other, delta, errno)

@@ -51,7 +51,9 @@ func (e *Engine) Advance(w int64) ([]api.Match, api.Errno) {
 }
 
 // Save is the engine's state as a frame (P9).
-func (e *Engine) Save() []byte { return nil }
+func (e *Engine) Save() []byte {
+	return e.inner.Save()
+}
 
 // Watch hands events over and advances, till stop matches have come (P15).
 func Watch(pattern string, events []api.Event, last int64, stop int) ([]api.Match, api.Errno) {

@@ -5,6 +5,7 @@ import (
 
 	"spotter/api"
 	"spotter/engine"
+	"spotter/frame"
 	"spotter/pattern"
 )
 
@@ -19,6 +20,8 @@ func number(err error) api.Errno {
 		return api.ErrLate
 	case is[engine.FullError](err):
 		return api.ErrFull
+	case is[frame.BytesError](err):
+		return api.ErrBytes
 	}
 	return api.ErrPattern
 }
