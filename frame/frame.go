@@ -1,8 +1,11 @@
-// Package frame writes and reads frames: a kind, numbers, moments and texts, and a sum of all that.
+// Package frame writes and reads frames: a kind, what is in it, and a sum of all that.
 package frame
 
-// State is the kind of the frames that hold the state of an engine.
-const State = 'S'
+// The kinds of frames.
+const (
+	State = 'S' // the state of an engine
+	Delta = 'D' // what leads from one state to another
+)
 
 const (
 	bitsOfByte  = 7

@@ -43,8 +43,8 @@ func TestSum(t *testing.T) {
 	for _, text := range []string{"", "a", "S", "foobar", "\x00\xff", string(make([]byte, 1000))} {
 		h := fnv.New32a()
 		h.Write([]byte(text))
-		if got := sum([]byte(text)); !bytes.Equal(got, h.Sum(nil)) {
-			t.Errorf("sum(%q) = %x; want %x", text, got, h.Sum(nil))
+		if got := sum([]byte(text)); got != h.Sum32() {
+			t.Errorf("sum(%q) = %x; want %x", text, got, h.Sum32())
 		}
 	}
 }
@@ -110,6 +110,59 @@ func TestTexts(t *testing.T) {
 	checkFault(t, binary.AppendUvarint(nil, 1<<63), 11, length)
 }
 
+func TestSumsOfOtherFrames(t *testing.T) {
+	for _, n := range []uint32{0, 1, 0x01020304, 0x80000000, math.MaxUint32} {
+		want := binary.BigEndian.AppendUint32(nil, n)
+		if got := body(func(w *Writer) { w.Sum(n) }); !bytes.Equal(got, want) {
+			t.Errorf("Sum(%x) = %x", n, got)
+		}
+		if got, err := Read(State, framed(want), (*Reader).Sum); got != n || err != nil {
+			t.Errorf("reading %x: %x, %v", want, got, err)
+		}
+	}
+	read := func(r *Reader) uint64 { return uint64(r.Sum()) }
+	checkFault(t, nil, 1, read)
+	checkFault(t, []byte{1, 2, 3}, 4, read)
+	checkFault(t, []byte{1, 2, 3, 4, 5}, 5, read)
+	if got := SumOf([]byte("S\x01\x02\x03\x04")); got != 0x01020304 {
+		t.Errorf("SumOf = %x", got)
+	}
+}
+
+func TestRest(t *testing.T) {
+	for _, content := range []string{"", "a", "\x00\xff", "abc"} {
+		frame := framed(body(func(w *Writer) { w.Number(7); w.Rest([]byte(content)) }))
+		got, err := Read(State, frame, func(r *Reader) string {
+			r.Number()
+			rest := string(r.Rest())
+			if again := r.Rest(); len(again) != 0 {
+				t.Errorf("behind the rest there is %q", again)
+			}
+			return rest
+		})
+		if got != content || err != nil {
+			t.Errorf("the rest is %q, %v; want %q", got, err, content)
+		}
+	}
+}
+
+func TestCheckDoesNotLookInside(t *testing.T) {
+	for _, content := range []string{"", "\x80", "anything"} {
+		if err := Check(State, framed([]byte(content))); err != nil {
+			t.Errorf("%q: %v", content, err)
+		}
+	}
+	good := framed([]byte("abc"))
+	for _, frame := range [][]byte{nil, []byte("S"), good[:4], good[1:], good[:len(good)-1], NewWriter(Delta).Frame()} {
+		if _, ok := errors.AsType[BytesError](Check(State, frame)); !ok {
+			t.Errorf("%x is a frame", frame)
+		}
+	}
+	if err := Check(Delta, NewWriter(Delta).Frame()); err != nil {
+		t.Errorf("another kind: %v", err)
+	}
+}
+
 func TestBelow(t *testing.T) {
 	for _, c := range []struct {
 		n     uint64
@@ -133,7 +186,7 @@ func TestReadNeedsAFrameOfTheKind(t *testing.T) {
 	good := framed([]byte{7})
 	wrong := bytes.Clone(good)
 	wrong[len(wrong)-1]++
-	for _, frame := range [][]byte{nil, {}, []byte("S"), []byte("Sabc"), sum(nil), (&Writer{}).Frame(), wrong, good[:len(good)-1], append(bytes.Clone(good), 0), NewWriter('T').Frame()} {
+	for _, frame := range [][]byte{nil, {}, []byte("S"), []byte("Sabc"), []byte{0x81, 0x1c, 0x9d, 0xc5}, (&Writer{}).Frame(), wrong, good[:len(good)-1], append(bytes.Clone(good), 0), NewWriter('T').Frame()} {
 		n, err := Read(State, frame, func(*Reader) int {
 			t.Errorf("%x was read", frame)
 			return 1
@@ -174,13 +227,19 @@ func TestOtherPanicsGoOn(t *testing.T) {
 	t.Error("the panic was swallowed")
 }
 
+// With some of these lengths there is room for the sum behind what was gathered, with others not.
 func TestFramesHaveMemoryOfTheirOwn(t *testing.T) {
-	w := NewWriter(State)
-	w.Text("abc")
-	first := w.Frame()
-	want := bytes.Clone(first)
-	clear(first[:cap(first)])
-	if second := w.Frame(); !bytes.Equal(second, want) {
-		t.Errorf("the second frame is %x; want %x", second, want)
+	for length := range 40 {
+		w := NewWriter(State)
+		w.Rest(make([]byte, length))
+		first := w.Frame()
+		want := bytes.Clone(first)
+		first = first[:cap(first)]
+		for i := range first {
+			first[i] = 0xAA
+		}
+		if second := w.Frame(); !bytes.Equal(second, want) {
+			t.Errorf("the second frame is %x; want %x", second, want)
+		}
 	}
 }

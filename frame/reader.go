@@ -23,13 +23,19 @@ func Read[T any](kind byte, frame []byte, read func(*Reader) T) (out T, err erro
 	return found, nil
 }
 
+// Check tells whether bytes are a frame of a kind, whatever is in it. Its error is BytesError.
+func Check(kind byte, frame []byte) error {
+	_, err := Read(kind, frame, (*Reader).Rest)
+	return err
+}
+
 // open begins behind the kind.
 func open(kind byte, frame []byte) *Reader {
 	r := &Reader{}
 	end := len(frame) - sumLength
 	r.Need(end > 0, "no room for a kind and a sum")
 	r.Need(frame[0] == kind, "another kind")
-	r.Need(summed(frame[:end], frame[end:]), "a wrong sum")
+	r.Need(sum(frame[:end]) == SumOf(frame), "a wrong sum")
 	r.body, r.at = frame[:end], 1
 	return r
 }
@@ -88,4 +94,20 @@ func (r *Reader) Text() string {
 	r.Need(length <= uint64(len(rest)), "too few bytes")
 	r.at += int(length)
 	return string(rest[:length])
+}
+
+// Sum reads the sum of another frame.
+func (r *Reader) Sum() uint32 {
+	var bytes [sumLength]byte
+	for i := range bytes {
+		bytes[i] = r.next()
+	}
+	return sumIn(bytes[:])
+}
+
+// Rest is all that was not read so far. It lies in the frame itself.
+func (r *Reader) Rest() []byte {
+	rest := r.body[r.at:]
+	r.at = len(r.body)
+	return rest
 }

@@ -41,7 +41,17 @@ func (w *Writer) Text(text string) {
 	w.body = append(w.body, text...)
 }
 
+// Sum adds the sum of another frame.
+func (w *Writer) Sum(n uint32) {
+	w.body = appendSum(w.body, n)
+}
+
+// Rest adds bytes that go on up to the end of the frame, so that their number need not be told.
+func (w *Writer) Rest(bytes []byte) {
+	w.body = append(w.body, bytes...)
+}
+
 // Frame is what was gathered, with its sum.
 func (w *Writer) Frame() []byte {
-	return slices.Concat(w.body, sum(w.body))
+	return appendSum(slices.Clone(w.body), sum(w.body))
 }

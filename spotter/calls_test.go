@@ -59,8 +59,8 @@ func TestP1NoCallPanicsOrGivesMoreThanItsError(t *testing.T) {
 	for i, from := range frames {
 		useFrames(t, from, frames[len(frames)-1-i])
 	}
-	spotter.Resolve(nil)
-	spotter.Resolve(frames)
+	checkResolve(t, "no list", nil, nil, -1)
+	checkResolve(t, "odd bytes", frames, nil, -1)
 }
 
 func useEngine(t *testing.T, text string, events []api.Event) {
@@ -90,11 +90,13 @@ func useFrames(t *testing.T, from, other []byte) {
 	if e, errno := spotter.Load(from); e != nil || errno != api.ErrBytes {
 		t.Errorf("Load(%q) = %v, %d", from, e, errno)
 	}
-	if delta, errno := spotter.Delta(from, other); errno != api.OK && len(delta) != 0 {
-		t.Errorf("Delta(%q, %q) = %q beside error %d", from, other, delta, errno)
+	state := stateOf("abc")
+	for _, pair := range [][2][]byte{{from, other}, {from, state}, {state, from}} {
+		checkNoDelta(t, pair[0], pair[1])
+		checkApply(t, pair[0], pair[1], nil, api.ErrBytes)
 	}
-	if to, errno := spotter.Apply(from, other); errno != api.OK && len(to) != 0 {
-		t.Errorf("Apply(%q, %q) = %q beside error %d", from, other, to, errno)
+	if to, errno := spotter.Apply(state, sealed(append([]byte("D"), from...))); to != nil || errno == api.OK {
+		t.Errorf("Apply of a delta of %q = %q, %d", from, to, errno)
 	}
 }
 

@@ -4,6 +4,7 @@ import (
 	"errors"
 
 	"spotter/api"
+	"spotter/chain"
 	"spotter/engine"
 	"spotter/frame"
 	"spotter/pattern"
@@ -20,8 +21,10 @@ func number(err error) api.Errno {
 		return api.ErrLate
 	case is[engine.FullError](err):
 		return api.ErrFull
-	case is[frame.BytesError](err):
+	case is[frame.BytesError](err), is[chain.FaultError](err):
 		return api.ErrBytes
+	case is[chain.OtherError](err):
+		return api.ErrChain
 	}
 	return api.ErrPattern
 }
