@@ -5,6 +5,7 @@ import (
 	"spotter/api"
 	"spotter/engine"
 	"spotter/pattern"
+	"spotter/watch"
 )
 
 // Parse writes a pattern canonically (P3).
@@ -57,5 +58,9 @@ func (e *Engine) Save() []byte {
 
 // Watch hands events over and advances, till stop matches have come (P15).
 func Watch(pattern string, events []api.Event, last int64, stop int) ([]api.Match, api.Errno) {
-	return nil, api.OK
+	inner, err := engineOf(pattern)
+	if err != nil {
+		return nil, number(err)
+	}
+	return watch.Matches(inner, events, last, stop), api.OK
 }
